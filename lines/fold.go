@@ -5,14 +5,15 @@ import (
 	"unicode/utf8"
 
 	"datebook/api"
+	"datebook/pieces"
 )
 
-// fold writes lines as a text. A lineError tells what is wrong with one of them, another error what is wrong with all.
+// fold writes lines as a text. A pieces.Error tells what is wrong with one of them, another error what is wrong with all.
 func fold(l []string) (string, error) {
 	var out strings.Builder
 	for i, line := range l {
 		if err := checkWhole(line); err != nil {
-			return "", &lineError{line: i + 1, cause: err}
+			return "", &pieces.Error{Place: i + 1, Cause: err}
 		}
 		write(&out, line)
 		if out.Len() > api.MaxText {

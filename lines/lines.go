@@ -5,6 +5,7 @@ import (
 	"errors"
 
 	"datebook/api"
+	"datebook/pieces"
 )
 
 // Unfold reads lines (P4).
@@ -27,9 +28,9 @@ func Fold(l []string) (string, api.Errno) {
 
 // lineOf is the line of which an error tells; 0, if it tells of the whole text.
 func lineOf(err error) int {
-	var wrong *lineError
+	var wrong *pieces.Error
 	if errors.As(err, &wrong) {
-		return wrong.line
+		return wrong.Place
 	}
 	return 0
 }

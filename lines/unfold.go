@@ -4,26 +4,26 @@ import (
 	"strings"
 
 	"datebook/api"
+	"datebook/pieces"
 )
 
-// reader goes through a text, line by line as they stand.
+// reader goes through a text; its pieces are the lines as they stand.
 type reader struct {
-	line int // that was read last, from 1 on
-	left string
+	pieces.Reader
 }
 
-// unfold reads all lines of a text. A lineError tells what is wrong with one of them, another error what is wrong with all.
+// unfold reads all lines of a text. A pieces.Error tells what is wrong with one of them, another error what is wrong with all.
 func unfold(text string) ([]string, error) {
 	if len(text) > api.MaxText {
 		return nil, errLong
 	}
 	// The lines are pieces of what is read: a copy keeps the caller's text out of them.
-	r := reader{left: strings.Clone(text)}
+	r := reader{pieces.Of(strings.Clone(text))}
 	var out []string
-	for r.left != "" {
-		line, err := r.next()
+	for !r.Done() {
+		line, err := r.line()
 		if err != nil {
-			return nil, &lineError{line: r.line, cause: err}
+			return nil, r.Wrong(err)
 		}
 		if goesOn(line) {
 			out[len(out)-1] += line[1:]
@@ -34,18 +34,16 @@ func unfold(text string) ([]string, error) {
 	return out, nil
 }
 
-// next reads a line, without its CR and LF.
-func (r *reader) next() (string, error) {
-	line, left, ended := strings.Cut(r.left, "\n")
+// line reads a line, without its CR and LF.
+func (r *reader) line() (string, error) {
+	line, ended := r.Next("\n")
 	line, paired := strings.CutSuffix(line, "\r")
-	r.line++
-	r.left = left
 	switch {
 	case !ended || !paired:
 		return "", errEnd
 	case len(line) > api.MaxLine:
 		return "", errLong
-	case r.line == 1 && goesOn(line):
+	case r.Place() == 1 && goesOn(line):
 		return "", errGoesOn
 	}
 	return line, checkBytes(line)

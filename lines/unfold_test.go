@@ -11,6 +11,7 @@ import (
 	"unsafe"
 
 	"datebook/api"
+	"datebook/pieces"
 )
 
 var rightLine = regexp.MustCompile(`^[^\x00-\x08\x0a-\x1f\x7f]*\r\n$`)
@@ -130,17 +131,10 @@ func TestUnfoldWrong(t *testing.T) {
 		if !errors.Is(err, c.cause) {
 			t.Errorf("unfold(%.60q): %v, want %v", c.text, err, c.cause)
 		}
-		var wrong *lineError
+		var wrong *pieces.Error
 		if errors.As(err, &wrong) != (c.at > 0) {
 			t.Errorf("unfold(%.60q): %v tells a line, or none", c.text, err)
 		}
-	}
-}
-
-func TestLineErrorText(t *testing.T) {
-	err := &lineError{line: 12, cause: errEnd}
-	if got, want := err.Error(), "line 12: "+errEnd.Error(); got != want {
-		t.Errorf("Error() = %q, want %q", got, want)
 	}
 }
 

@@ -2,7 +2,6 @@ package lines
 
 import (
 	"errors"
-	"strconv"
 	"unicode/utf8"
 )
 
@@ -14,18 +13,6 @@ var (
 	errUtf8   = errors.New("bytes that are no UTF-8")
 	errByte   = errors.New("a byte that may not stand in a line")
 )
-
-// lineError tells which line is wrong, from 1 on, and wraps what is wrong with it.
-type lineError struct {
-	line  int
-	cause error
-}
-
-func (e *lineError) Error() string {
-	return "line " + strconv.Itoa(e.line) + ": " + e.cause.Error()
-}
-
-func (e *lineError) Unwrap() error { return e.cause }
 
 // checkBytes tells what is wrong with the bytes of a line, without its CR and LF.
 func checkBytes(line string) error {
