@@ -179,6 +179,39 @@ func TestRangeInParts(t *testing.T) {
 	}
 }
 
+// In parts of all the time there is, some of them empty, from the first second to the last one.
+func TestRangeOfAllTimesInParts(t *testing.T) {
+	b := filled(t, []string{
+		text("UID:first", "DTSTART:19000101T000000", "RRULE:FREQ=YEARLY"),
+		text("UID:late", "DTSTART:21991231T235958", "RDATE:21991231T235959,19000101T000000,19700101T000000"),
+		text("UID:leap", "DTSTART:19040229T120000Z", "RRULE:FREQ=YEARLY", "EXDATE:20000229T120000Z"),
+		text("UID:until", "DTSTART:19691231T235959", "RRULE:FREQ=MONTHLY;BYDAY=-1WE,WE,TH;BYSETPOS=-1,-2;UNTIL=19791231T235959"),
+	})
+	whole, errno := b.Range(firstTime, lastTime, api.MaxHits)
+	if len(whole) < 400 || errno != api.OK {
+		t.Fatalf("P11: Range = %d hits, %d", len(whole), errno)
+	}
+	r := rand.New(rand.NewSource(15))
+	for range 20 {
+		cuts := []int{firstTime, lastTime, firstTime, lastTime, firstTime + 1, lastTime - 1, 0, 0, -1}
+		for range r.Intn(40) {
+			cuts = append(cuts, firstTime+r.Intn(lastTime-firstTime), whole[r.Intn(len(whole))].At)
+		}
+		slices.Sort(cuts)
+		var got []api.Hit
+		for i := range len(cuts) - 1 {
+			part, errno := b.Range(cuts[i], cuts[i+1], api.MaxHits)
+			if errno != api.OK {
+				t.Fatalf("P11: Range = %d", errno)
+			}
+			got = append(got, part...)
+		}
+		if !slices.Equal(got, whole) {
+			t.Fatalf("P14: parts tell %v, the whole tells %v", got, whole)
+		}
+	}
+}
+
 // What is told is the caller's.
 func TestRangeIsNew(t *testing.T) {
 	b := filled(t, someEvents())

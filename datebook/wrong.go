@@ -2,6 +2,7 @@ package datebook
 
 import (
 	"errors"
+	"strconv"
 
 	"datebook/api"
 	"datebook/journal"
@@ -24,4 +25,29 @@ func errnoOf(err error) api.Errno {
 		return api.ErrFull
 	}
 	return api.ErrDisk
+}
+
+// Why a line is no command, beside what is wrong with its numbers.
+var (
+	errLong    = errors.New("too many bytes")
+	errCommand = errors.New("no command of a session, or too many words, or too few")
+	errEmpty   = errors.New("a word without a byte")
+)
+
+// refusal tells that the store refuses a command: by which error, and of a text that is none in which line, or for which reason.
+type refusal struct {
+	errno api.Errno
+	at    int
+}
+
+func (r *refusal) Error() string {
+	return "the store answers " + strconv.Itoa(int(r.errno)) + ", " + strconv.Itoa(r.at)
+}
+
+// refused is the refusal that the store answers with; nil, if it does not refuse.
+func refused(errno api.Errno, at int) error {
+	if errno == api.OK {
+		return nil
+	}
+	return &refusal{errno: errno, at: at}
 }

@@ -36,20 +36,11 @@ func padded(n int, width int) string {
 	return strings.Repeat("0", max(0, width-len(s))) + s
 }
 
-// readNumber reads a number from least to most that is written as Itoa writes it, without noughts or a `+` ahead.
-func readNumber(s string, least int, most int) (int, error) {
-	n, err := strconv.Atoi(s)
-	if err != nil || strconv.Itoa(n) != s || n < least || n > most {
-		return 0, errNumber
-	}
-	return n, nil
-}
-
 // readPlace reads a number from 1 to most, or as much below 0: places are counted from the beginning or from the end.
 func readPlace(s string, most int) (int, error) {
-	n, err := readNumber(s, -most, most)
+	n, err := pieces.Number(s, -most, most)
 	if err == nil && n == 0 {
-		return 0, errNumber
+		return 0, pieces.ErrNumber
 	}
 	return n, err
 }

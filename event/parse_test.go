@@ -191,7 +191,7 @@ func TestWhatIsWrong(t *testing.T) {
 		cause error
 		text  string
 	}{
-		{"RRULE:FREQ=DAILY;BYMONTH=1,13", api.WhyRule, 2, errNumber, "reason 8: piece 2: BYMONTH: piece 2: no number that may stand there"},
+		{"RRULE:FREQ=DAILY;BYMONTH=1,13", api.WhyRule, 2, pieces.ErrNumber, "reason 8: piece 2: BYMONTH: piece 2: no number that may stand there"},
 		{"RRULE:COUNT=1", api.WhyRule, 0, errMissing, "reason 8: FREQ: it is not there"},
 		{"RRULE:FREQ=DAILY;FREQ=DAILY", api.WhyRule, 2, errTwice, "reason 8: piece 2: FREQ: it stands twice"},
 		{"RRULE:FREQ=DAILY;COUNT=1;UNTIL=20250101T000000", api.WhyParts, 0, errTogether, "reason 9: they do not go together"},

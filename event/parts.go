@@ -5,6 +5,7 @@ import (
 	"strconv"
 
 	"datebook/api"
+	"datebook/pieces"
 )
 
 // freqNames are the names of the frequencies, from Daily, 1, on.
@@ -32,7 +33,7 @@ func (r *rule) writeFreq() string {
 
 func (r *rule) readEvery(s string) error {
 	var err error
-	r.Every, err = readNumber(s, 1, api.MaxEvery)
+	r.Every, err = pieces.Number(s, 1, api.MaxEvery)
 	return err
 }
 
@@ -45,7 +46,7 @@ func (r *rule) writeEvery() string {
 
 func (r *rule) readCount(s string) error {
 	var err error
-	r.Count, err = readNumber(s, 1, api.MaxCount)
+	r.Count, err = pieces.Number(s, 1, api.MaxCount)
 	return err
 }
 
@@ -76,7 +77,7 @@ func (r *rule) readMonths(s string) error {
 	return err
 }
 
-func readMonth(s string) (int, error) { return readNumber(s, 1, 12) }
+func readMonth(s string) (int, error) { return pieces.Number(s, 1, 12) }
 
 func (r *rule) writeMonths() string { return writeList(r.Months, strconv.Itoa) }
 

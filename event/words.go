@@ -80,7 +80,7 @@ func (s *summaryReader) read() error {
 
 // readEscaped reads what stands behind a backslash.
 func (s *summaryReader) readEscaped() error {
-	b := s.Byte()
+	b := s.Take(1)
 	switch b {
 	case `\`, ";", ",":
 		s.out.WriteString(b)

@@ -17,7 +17,6 @@ var (
 	errDate     = errors.New("no date of the event's form")
 	errDuration = errors.New("no duration")
 	errLength   = errors.New("no length that an event may have")
-	errNumber   = errors.New("no number that may stand there")
 	errWeekday  = errors.New("no weekday")
 	errFreq     = errors.New("no frequency")
 	errPart     = errors.New("no part of a rule")

@@ -179,6 +179,46 @@ func TestFoldOfUnfolded(t *testing.T) {
 	}
 }
 
+// Texts that are right, folded in all ways: what Fold makes of their lines is not longer, and unfolds to them.
+func TestFoldOfManyUnfolded(t *testing.T) {
+	r := rand.New(rand.NewSource(14))
+	pieces := []string{"\r\n", "\r\n ", "\r\n ", "\r\n\t", " ", "\t", "a", "\u00e9", "\u65e5", "\U0001f4c5", strings.Repeat("y", 37), strings.Repeat("\u65e5", 12)}
+	right, refused := 0, 0
+	for range 30000 {
+		text := "a"
+		for range r.Intn(1 << r.Intn(7)) {
+			text += pieces[r.Intn(len(pieces))]
+		}
+		text += "\r\n"
+		l, e, _ := Unfold(text)
+		if e != api.OK { // a line is too long
+			continue
+		}
+		again, e := Fold(l)
+		if slices.ContainsFunc(l, goesOn) {
+			refused++
+			if again != "" || e != api.ErrArg {
+				t.Fatalf("P5: Fold(%q) = %q, %d", l, again, e)
+			}
+			continue
+		}
+		right++
+		if e != api.OK || len(again) > len(text) {
+			t.Fatalf("P14: %q unfolds to %q, which Fold makes %q of, %d", text, l, again, e)
+		}
+		checkFolded(t, l, again)
+	}
+	if right < 5000 || refused < 300 {
+		t.Errorf("%d texts were folded again, %d were refused", right, refused)
+	}
+	// As long as can be: here Fold has nothing to save.
+	most := strings.Repeat("x", 75) + strings.Repeat("\r\n "+strings.Repeat("x", 74), 50) + "\r\n " + strings.Repeat("x", 70) + "\r\n"
+	l, e, _ := Unfold(most)
+	if again, e2 := Fold(l); e != api.OK || e2 != api.OK || again != most || len(most) != api.MaxText {
+		t.Errorf("P14: a text of %d bytes is folded to one of %d: %d, %d", len(most), len(again), e, e2)
+	}
+}
+
 func TestFoldLeavesItsList(t *testing.T) {
 	for _, line := range []string{strings.Repeat("x", 200), "\xff"} {
 		all := []string{"a", line, "behind", "further"}

@@ -45,9 +45,9 @@ func (r *Reader) All(mark string) iter.Seq[string] {
 	}
 }
 
-// Byte reads a piece of one byte; of nothing, if nothing is left.
-func (r *Reader) Byte() string {
-	n := min(1, len(r.left))
+// Take reads a piece of so many bytes; of fewer, if no more are left.
+func (r *Reader) Take(n int) string {
+	n = min(n, len(r.left))
 	piece := r.left[:n]
 	r.place++
 	r.left = r.left[n:]

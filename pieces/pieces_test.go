@@ -53,12 +53,18 @@ func TestAllStopped(t *testing.T) {
 	}
 }
 
-func TestByte(t *testing.T) {
-	r := Of("\u00e9x")
-	for i, want := range []string{"\xc3", "\xa9", "x", "", ""} {
-		if got := r.Byte(); got != want || r.Place() != i+1 {
-			t.Errorf("byte %d = %q at %d, want %q", i+1, got, r.Place(), want)
+func TestTake(t *testing.T) {
+	r := Of("\u00e9x;yz")
+	for i, want := range []struct {
+		n     int
+		piece string
+	}{{1, "\xc3"}, {0, ""}, {3, "\xa9x;"}, {3, "yz"}, {1, ""}, {0, ""}} {
+		if got := r.Take(want.n); got != want.piece || r.Place() != i+1 {
+			t.Errorf("piece %d = %q at %d, want %q", i+1, got, r.Place(), want.piece)
 		}
+	}
+	if !r.Done() {
+		t.Errorf("behind the last piece: %+v", r)
 	}
 }
 
